@@ -1,0 +1,1 @@
+"""Snapdigits: snapshot chains by digits."""
