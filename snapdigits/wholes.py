@@ -1,6 +1,6 @@
 """What counts as an integer, a number and a time."""
 
-from snapdigits.errors import InvalidNumber, InvalidTime
+from snapdigits.errors import InvalidBound, InvalidNumber, InvalidTime
 
 
 def is_integer(value):
@@ -24,3 +24,8 @@ def check_number(number):
 def check_time(time):
     if not is_integer_from(time, 0):
         raise InvalidTime(time)
+
+
+def check_bound(bound, least, part):
+    if not is_integer_from(bound, least):
+        raise InvalidBound(part)

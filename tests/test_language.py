@@ -100,6 +100,29 @@ class Names(unittest.TestCase):
                     bound.append(node.name)
             self.assertEqual(sorted(set(bound)), sorted(bound), name)
 
+    def test_no_local_name_is_that_of_a_class_or_an_import(self):
+        for name, tree in trees():
+            taken = {node.name for node in tree.body if isinstance(node, ast.ClassDef)}
+            for node in tree.body:
+                if isinstance(node, ast.ImportFrom):
+                    taken |= {alias.asname or alias.name for alias in node.names}
+            for node in ast.walk(tree):
+                if isinstance(node, ast.arg):
+                    self.assertNotIn(node.arg, taken, f"{name}:{node.lineno}")
+                elif isinstance(node, ast.Name) and isinstance(node.ctx, ast.Store):
+                    self.assertNotIn(node.id, taken, f"{name}:{node.lineno}")
+
+    def test_no_two_files_import_from_each_other(self):
+        imported = {}
+        for name, tree in trees():
+            module = "snapdigits." + name[:-len(".py")]
+            imported[module] = {node.module for node in tree.body if isinstance(node, ast.ImportFrom)}
+        while imported:
+            ready = [module for module in imported if not imported[module] & set(imported)]
+            self.assertTrue(ready, imported)
+            for module in ready:
+                del imported[module]
+
     def test_no_name_is_a_method_and_an_attribute(self):
         methods = {part.name for _, node in nodes(ast.ClassDef) for part in node.body
                    if isinstance(part, ast.FunctionDef)}
@@ -133,6 +156,23 @@ class Expressions(unittest.TestCase):
             if isinstance(node.func, ast.Name) and node.func.id in TAKE_LISTS:
                 for argument in node.args:
                     self.assertNotIsInstance(argument, ast.GeneratorExp, place)
+
+    def test_ranges_and_the_like_are_iterated_at_once(self):
+        at_once = set()
+        for _, node in nodes(ast.For, ast.comprehension):
+            at_once.add(ast.dump(node.iter))
+        for _, node in nodes(ast.Call):
+            if isinstance(node.func, ast.Name) and node.func.id in ("list", "tuple", "dict", *TAKE_LISTS):
+                at_once.update(ast.dump(argument) for argument in node.args[:1])
+        for place, node in nodes(ast.Call):
+            if isinstance(node.func, ast.Name) and node.func.id in ("range", "zip", "enumerate", "reversed"):
+                self.assertIn(ast.dump(node), at_once, place)
+
+    def test_comparisons_have_the_plain_form(self):
+        for place, node in nodes(ast.FunctionDef):
+            if node.name == "__eq__":
+                self.assertEqual(len(node.body), 1, place)
+                self.assertIsInstance(node.body[0].value, ast.BoolOp, place)
 
     def test_statements(self):
         barred = (ast.Global, ast.AsyncFunctionDef, ast.AsyncFor, ast.AsyncWith, ast.Await)

@@ -4,9 +4,10 @@ import inspect
 import unittest
 from unittest import mock
 
-from snapdigits.errors import InvalidNumber, InvalidScheme, InvalidTime
+from snapdigits.errors import InvalidScheme
 from snapdigits.schemes import Scheme
 
+from raising import RaisingCase
 from samples import EqualToAll, OwnInt, no_integers, no_numbers
 
 PARAMETERS = {
@@ -120,17 +121,7 @@ class Equality(unittest.TestCase):
                 self.assert_different(Scheme(10, 2), other)
 
 
-class WrongNumbersAndTimes(unittest.TestCase):
-
-    def assert_number(self, value, call, *arguments):
-        with self.assertRaises(InvalidNumber) as caught:
-            call(*arguments)
-        self.assertIs(caught.exception.number, value)
-
-    def assert_time(self, value, call, *arguments):
-        with self.assertRaises(InvalidTime) as caught:
-            call(*arguments)
-        self.assertIs(caught.exception.time, value)
+class WrongNumbersAndTimes(RaisingCase):
 
     def test_methods_of_one_number(self):
         s = Scheme(10, 2)

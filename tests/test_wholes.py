@@ -2,11 +2,11 @@
 
 import unittest
 
-from snapdigits.errors import InvalidNumber, InvalidTime
 from snapdigits.wholes import (
-    check_number, check_time, is_integer, is_integer_between, is_integer_from,
+    check_bound, check_number, check_time, is_integer, is_integer_between, is_integer_from,
 )
 
+from raising import RaisingCase
 from samples import OwnInt, no_integers, no_numbers
 
 
@@ -47,22 +47,24 @@ class Ranges(unittest.TestCase):
                 self.assertIs(is_integer_between(value, 0, 9), False)
 
 
-class Checks(unittest.TestCase):
+class Checks(RaisingCase):
 
     def test_numbers_and_times_pass(self):
         for value in (0, 1, 10 ** 30):
             self.assertIsNone(check_number(value))
             self.assertIsNone(check_time(value))
+            self.assertIsNone(check_bound(value, 0, "low"))
 
     def test_others_do_not(self):
         for value in no_numbers():
             with self.subTest(kind=value.__class__):
-                with self.assertRaises(InvalidNumber) as caught:
-                    check_number(value)
-                self.assertIs(caught.exception.number, value)
-                with self.assertRaises(InvalidTime) as caught:
-                    check_time(value)
-                self.assertIs(caught.exception.time, value)
+                self.assert_number(value, check_number, value)
+                self.assert_time(value, check_time, value)
+                self.assert_bound("low", check_bound, value, 0, "low")
+
+    def test_the_least_bound(self):
+        self.assertIsNone(check_bound(5, 5, "high"))
+        self.assert_bound("high", check_bound, 4, 5, "high")
 
 
 if __name__ == "__main__":
