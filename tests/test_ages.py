@@ -58,7 +58,7 @@ class RestorePoints(unittest.TestCase):
 
     def test_all_small_times_and_ages(self):
         for scheme in schemes(SMALL):
-            for time in (*range(100), 127, 128, 129, 200, 243, 299):
+            for time in (*range(131), 200, 243, 299):
                 for age in range(time + 1):
                     point = walked_point(scheme, time, age)
                     told = (named(scheme), time, age)

@@ -63,7 +63,7 @@ class Ranks(unittest.TestCase):
 
     def test_all_small_times(self):
         for scheme in schemes(SMALL):
-            for time in (*range(70), 127, 128, 200, 299):
+            for time in (*range(131), 200, 243, 299):
                 kept = walked_kept(scheme, time)
                 self.assertEqual([kept_number(scheme, time, at) for at in range(len(kept))], kept)
                 for number in range(time + 4):
@@ -102,6 +102,15 @@ class Ranges(unittest.TestCase):
                         expected = [n for n in kept if low <= n <= high]
                         self.assertEqual(kept_between(scheme, time, low, high), expected, (named(scheme), time))
 
+    def test_all_small_times(self):
+        for scheme in schemes(SMALL):
+            for time in TIMES:
+                kept = walked_kept(scheme, time)
+                for low, high in ((0, time), (1, time), (time // 3, time // 2), (time // 2, time + 5), (time, time)):
+                    if low <= high:
+                        expected = [n for n in kept if low <= n <= high]
+                        self.assertEqual(kept_between(scheme, time, low, high), expected, (named(scheme), time))
+
     def test_empty(self):
         self.assertEqual(kept_between(S, 10, 1, 3), [])
         self.assertEqual(kept_between(S, 10, 5, 5), [])
@@ -125,9 +134,9 @@ class Drops(unittest.TestCase):
 
     def test_all_small_times(self):
         for scheme in schemes(SMALL):
-            kept = [walked_kept(scheme, time) for time in range(100)]
-            for before in range(100):
-                for after in (*range(before, min(before + 12, 100)), *range(before, 100, 17)):
+            kept = [walked_kept(scheme, time) for time in range(150)]
+            for before in range(150):
+                for after in (*range(before, min(before + 12, 150)), *range(before, 150, 17)):
                     told = (named(scheme), before, after)
                     gone = [n for n in kept[before] if n not in kept[after]]
                     new = [n for n in kept[after] if n > before]
