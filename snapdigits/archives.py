@@ -1,6 +1,7 @@
 """Archives: a scheme with numbers that are missing, stored in full, pinned or damaged."""
 
 from snapdigits.errors import InvalidArchive, InvalidNumber
+from snapdigits.levels import cut_rows, kept_rows, numbers_in_spans, rows_apart
 from snapdigits.schemes import Scheme
 from snapdigits.wholes import check_number, check_time, is_integer_from
 
@@ -119,3 +120,15 @@ class Archive:
     def is_restorable(self, number, time):
         """Whether a number is kept at a time and not broken."""
         return self.is_kept(number, time) and not self.is_broken(number)
+
+
+def archive_rows(archive, time, spans):
+    """The numbers in the ascending spans (low, high) that an archive keeps at a time, as ascending rows."""
+    by_scheme = kept_rows(archive.scheme(), time)
+    rows = []
+    for low, high in spans:
+        rows += cut_rows(by_scheme, low, high)
+    # They stand between the numbers of the rows, so each becomes a row of its own.
+    held = numbers_in_spans(archive.pinned_members(time), spans)
+    rows = rows_apart(rows, sorted(archive.missing() + held))
+    return sorted(rows + [(number, number, 1) for number in held])

@@ -45,25 +45,36 @@ def numbers_of_level(base, place, low, high):
     return [number for number in range(round_up(low, place), high + 1, place) if number % above != 0]
 
 
-def kept_rows(scheme, time):
-    """The numbers that are kept at a time, as ascending tuples (first, last, step).
+def kept_spans(scheme, time):
+    """The numbers up to a time as ascending tuples (low, high, step).
 
-    Each stands for the numbers first, first + step and so on up to last. What is too old for the
-    level below a place, and not for its own, is kept exactly if it is a multiple of the place: all
-    higher levels live longer. So there is at most one row for each place.
+    Of the numbers from low to high exactly the multiples of the step are kept at the time: what is too old
+    for the level below a place, and not for its own, is kept if its level is at least that of the place, as all
+    higher levels live longer. So there is at most one span for each place.
     """
-    rows = []
+    spans = []
     place = 1
     after = time + 1
     while after > 0:
         oldest = max(0, time - scheme.factor() * place)
-        first = round_up(oldest, place)
-        last = round_down(after - 1, place)
-        if first <= last:
-            rows.append((first, last, place))
+        spans.append((oldest, after - 1, place))
         after = oldest
         place *= scheme.base()
-    rows.reverse()
+    spans.reverse()
+    return spans
+
+
+def kept_rows(scheme, time):
+    """The numbers that are kept at a time, as ascending tuples (first, last, step).
+
+    Each stands for the numbers first, first + step and so on up to last, all multiples of the step.
+    """
+    rows = []
+    for low, high, step in kept_spans(scheme, time):
+        first = round_up(low, step)
+        last = round_down(high, step)
+        if first <= last:
+            rows.append((first, last, step))
     return rows
 
 
@@ -98,3 +109,49 @@ def number_at(rows, index):
             return number
         below += (last - first) // step + 1
     return None
+
+
+def rows_apart(rows, numbers):
+    """The rows without the numbers of an ascending list, split so that none reaches over one of them."""
+    apart = []
+    at = 0
+    for first, last, step in rows:
+        start = first
+        while at < len(numbers) and numbers[at] <= last:
+            below = round_down(numbers[at] - 1, step)
+            if start <= below:
+                apart.append((start, below, step))
+            start = max(start, round_up(numbers[at] + 1, step))
+            at += 1
+        if start <= last:
+            apart.append((start, last, step))
+    return apart
+
+
+def greatest_in_rows(rows, most):
+    """The greatest number of the rows that is at most a number; None if there is none."""
+    # The rows ascend, and there may be many of them: the last one that begins early enough is found by halving.
+    low = 0
+    high = len(rows)
+    while low < high:
+        middle = (low + high) // 2
+        if rows[middle][0] <= most:
+            low = middle + 1
+        else:
+            high = middle
+    if low == 0:
+        return None
+    last, step = rows[low - 1][1:]
+    return min(last, round_down(most, step))
+
+
+def numbers_in_spans(numbers, spans):
+    """The numbers of an ascending list that are in one of the ascending spans (low, high)."""
+    found = []
+    at = 0
+    for number in numbers:
+        while at < len(spans) and spans[at][1] < number:
+            at += 1
+        if at < len(spans) and spans[at][0] <= number:
+            found.append(number)
+    return found

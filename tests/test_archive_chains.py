@@ -5,26 +5,11 @@ import unittest
 from snapdigits.archives import Archive
 from snapdigits.schemes import Scheme
 
+from archive_samples import small_archives
 from digits import walked_chain
 from walks import soon, walked_archive_chain, walked_archive_kept
 
 SPAN = 140
-
-
-def small_archives():
-    """Archives with all kinds of numbers, whose chains cross each other."""
-    found = [
-        Archive(Scheme(10, 1)),
-        Archive(Scheme(10, 2), missing=[20, 40], full=[45], pinned=[13, 47], damaged=[30, 60]),
-        Archive(Scheme(2, 1), missing=[4, 6, 8, 12], full=[40, 41], pinned=[7, 15, 43, 63], damaged=[16, 44]),
-        Archive(Scheme(2, 2), missing=[64, 96, 112], pinned=[113, 127], damaged=[64 + 8]),
-        Archive(Scheme(3, 1), missing=[27, 36, 39], full=[54, 57], pinned=[40, 59], damaged=[54, 60]),
-        Archive(Scheme(3, 2), full=[9, 30], pinned=[9, 30], damaged=[9, 30, 81]),
-        Archive(Scheme(2, 1), full=[0], pinned=[0], damaged=[0]),
-        Archive(Scheme(2, 3), full=[32], pinned=[0, 1, 2, 33], damaged=[0]),
-        Archive(Scheme(5, 1), missing=list(range(25, 125, 5)), pinned=[26, 51, 99], damaged=[101]),
-    ]
-    return found
 
 
 def taken(archive):

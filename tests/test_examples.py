@@ -1,14 +1,22 @@
-"""The examples e04, e05, e07, e201 to e219 and e301 to e308 of the document."""
+"""The examples e04 to e09, e201 to e232 and e301 to e313 of the document."""
 
 import unittest
 
 from snapdigits.ages import first_time_of_loss, greatest_loss, loss, restore_point, safe_age, widest_gap
 from snapdigits.archives import Archive
+from snapdigits.damage import broken_ranges, count_broken, forgotten_from
+from snapdigits.gaps import (
+    count_restorable, missing_that_matter, newest_kept, newest_restorable, newest_state_over, restorable_between,
+)
+from snapdigits.gaps import greatest_loss as greatest_loss_of_states
+from snapdigits.gaps import loss as loss_of_state
 from snapdigits.kept import (
     changes, count_kept, dropped, kept_between, kept_levels, kept_number, next_drop, next_kept,
     previous_kept, rank,
 )
+from snapdigits.repair import next_restorable, repair, repair_size
 from snapdigits.schemes import Scheme
+from snapdigits.space import greatest_distance, greatest_full, restore_size, size, size_of_range, space
 
 from raising import RaisingCase
 
@@ -25,8 +33,18 @@ class ArchiveExamples(RaisingCase):
     def test_e05(self):
         self.assertEqual(Archive(Scheme(10, 1), pinned=[4705]).pinned_members(4900), [4700, 4705])
 
+    def test_e06(self):
+        d = Archive(Scheme(10, 2), damaged=[4700], full=[4750])
+        found = [broken_ranges(d), count_broken(d, 4760), forgotten_from(d)]
+        self.assertEqual(found, [[(4700, 4750), (4760, 4800)], 3, 4901])
+
     def test_e07(self):
         self.assert_archive("damaged", 1, Archive, Scheme(10, 2), missing=[5], damaged=[4, 5])
+
+    def test_e08_e09(self):
+        e = Archive(Scheme(10, 2), damaged=[4700])
+        self.assertEqual([repair(e, 4768), next_restorable(e, 4768)], [[4769, 4770, 4780, 4790], 4800])
+        self.assertEqual(repair_size(Scheme(10, 2), 4700, 4768), 4)
 
 
 class KeptExamples(RaisingCase):
@@ -65,6 +83,37 @@ class KeptExamples(RaisingCase):
         self.assertIsNone(next_drop(S, 0))
 
 
+class GapExamples(RaisingCase):
+
+    def setUp(self):
+        self.archive = Archive(Scheme(2, 2), missing=[6], damaged=[8])
+
+    def test_e220_to_e222(self):
+        self.assertEqual(newest_kept(self.archive, 10, 7), 4)
+        self.assert_number(11, newest_kept, self.archive, 10, 11)
+        self.assertEqual(newest_restorable(self.archive, 10, 10), 4)
+
+    def test_e223_e224(self):
+        self.assertEqual(loss_of_state(self.archive, 10, 10), 6)
+        self.assertIsNone(loss_of_state(Archive(Scheme(2, 2), damaged=[0]), 10, 10))
+
+    def test_e225_e226(self):
+        self.assertEqual(count_restorable(self.archive, 10, 0, 10), 2)
+        self.assertEqual(restorable_between(self.archive, 10, 1, 10), [4])
+
+    def test_e227_e228(self):
+        self.assertEqual(greatest_loss_of_states(self.archive, 10, 0, 10), (6, 10))
+        self.assertEqual(greatest_loss_of_states(self.archive, 10, 0, 5), (3, 3))
+
+    def test_e229_e230(self):
+        self.assertEqual(newest_state_over(self.archive, 10, 2), 10)
+        self.assertIsNone(newest_state_over(self.archive, 10, 6))
+
+    def test_e231_e232(self):
+        self.assertEqual(missing_that_matter(self.archive, 10), [(6, 2)])
+        self.assertEqual(missing_that_matter(self.archive, 11), [])
+
+
 class AgeExamples(RaisingCase):
 
     def test_e301(self):
@@ -87,6 +136,22 @@ class AgeExamples(RaisingCase):
 
     def test_e308(self):
         self.assert_number(6, restore_point, T, 5, 6)
+
+
+class SpaceExamples(unittest.TestCase):
+
+    def test_e309(self):
+        found = [size(T, 4700, 1000), size(T, 4700, 500), size(T, 0, 500), restore_size(T, 4705, 5000),
+                 restore_size(T, 4705, 100)]
+        self.assertEqual(found, [700, 500, 500, 9705, 305])
+
+    def test_e310_e311(self):
+        self.assertEqual([space(T, 12, 50), space(T, 12, 1)], [63, 4])
+        self.assertEqual([size_of_range(T, 9, 12, 50), size_of_range(T, 0, 3, 50)], [20, 53])
+
+    def test_e312_e313(self):
+        self.assertEqual([greatest_distance(T, 12), greatest_distance(T, 0)], [(10, 10), None])
+        self.assertEqual([greatest_full(T, 12, 63), greatest_full(T, 12, 3)], [50, None])
 
 
 if __name__ == "__main__":

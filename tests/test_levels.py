@@ -3,8 +3,8 @@
 import unittest
 
 from snapdigits.levels import (
-    count_in_rows, count_of_level, cut_rows, ends_of_level, kept_rows, number_at, numbers_of_level,
-    numbers_of_rows, places_up_to, round_down, round_up,
+    count_in_rows, count_of_level, cut_rows, ends_of_level, greatest_in_rows, kept_rows, kept_spans, number_at,
+    numbers_in_spans, numbers_of_level, numbers_of_rows, places_up_to, round_down, round_up, rows_apart,
 )
 from snapdigits.schemes import Scheme
 
@@ -75,6 +75,40 @@ class Rows(unittest.TestCase):
                 rows = cut_rows(kept_rows(Scheme(2, 2), 10), low, high)
                 expected = [n for n in (0, 4, 6, 8, 9, 10) if low <= n <= high]
                 self.assertEqual(numbers_of_rows(rows), expected)
+
+    def test_apart(self):
+        rows = kept_rows(Scheme(2, 2), 40)
+        kept = numbers_of_rows(rows)
+        for numbers in ([], [0], [40], [41, 50], [24], [25], [0, 1, 2, 3, 36, 37, 38], list(range(41)), [16, 31, 33]):
+            apart = rows_apart(rows, numbers)
+            self.assertEqual(numbers_of_rows(apart), [n for n in kept if n not in numbers])
+            for first, last, _ in apart:
+                self.assertFalse([n for n in numbers if first <= n <= last])
+
+    def test_greatest(self):
+        rows = rows_apart(kept_rows(Scheme(2, 2), 40), [0, 24, 38])
+        kept = numbers_of_rows(rows)
+        for most in range(45):
+            below = [n for n in kept if n <= most]
+            self.assertEqual(greatest_in_rows(rows, most), below[-1] if below else None)
+        self.assertIsNone(greatest_in_rows([], 5))
+
+
+class Spans(unittest.TestCase):
+
+    def test_all_numbers_up_to_the_time(self):
+        for scheme in schemes(SMALL):
+            for time in range(80):
+                spans = kept_spans(scheme, time)
+                numbers = [n for low, high, _ in spans for n in range(low, high + 1)]
+                self.assertEqual(numbers, list(range(time + 1)), (named(scheme), time))
+                kept = [n for low, high, step in spans for n in range(low, high + 1) if n % step == 0]
+                self.assertEqual(kept, walked_kept(scheme, time), (named(scheme), time))
+
+    def test_numbers_in_spans(self):
+        self.assertEqual(numbers_in_spans([0, 3, 4, 5, 9, 10, 11], [(1, 4), (6, 6), (9, 10)]), [3, 4, 9, 10])
+        self.assertEqual(numbers_in_spans([1, 2], []), [])
+        self.assertEqual(numbers_in_spans([], [(1, 2)]), [])
 
 
 if __name__ == "__main__":
