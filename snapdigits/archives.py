@@ -100,8 +100,9 @@ class Archive:
     def is_held(self, number, time):
         """Whether a number is in the chain of a pinned number that is not above a time."""
         # The block is tested first, since it is cheaper than the chain.
-        return any([self.own_scheme.has_in_chain(pinned, number) and number in self.chain(pinned)
-                    for pinned in self.pinned_numbers if pinned <= time])
+        first, after = self.own_scheme.block(number)
+        return any([number in self.chain(pinned) for pinned in self.pinned_numbers
+                    if first <= pinned <= time and (after is None or pinned < after)])
 
     def pinned_members(self, time):
         """The ascending list of the numbers that are kept only because of pinned numbers."""

@@ -1,10 +1,13 @@
-"""The examples e04 to e09, e201 to e232 and e301 to e313 of the document."""
+"""The examples e01 to e12, e201 to e244 and e301 to e318 of the document."""
 
 import unittest
 
 from snapdigits.ages import first_time_of_loss, greatest_loss, loss, restore_point, safe_age, widest_gap
 from snapdigits.archives import Archive
+from snapdigits.change import Change
+from snapdigits.choice import least_factor
 from snapdigits.damage import broken_ranges, count_broken, forgotten_from
+from snapdigits.errors import InvalidScheme
 from snapdigits.gaps import (
     count_restorable, missing_that_matter, newest_kept, newest_restorable, newest_state_over, restorable_between,
 )
@@ -16,12 +19,33 @@ from snapdigits.kept import (
 )
 from snapdigits.repair import next_restorable, repair, repair_size
 from snapdigits.schemes import Scheme
+from snapdigits.search import (
+    best_plan, candidate, count_candidates, judge_plan, next_test, run_search, tests_needed,
+)
 from snapdigits.space import greatest_distance, greatest_full, restore_size, size, size_of_range, space
+from snapdigits.store import Store
 
 from raising import RaisingCase
 
 S = Scheme(2, 2)
 T = Scheme(10, 2)
+
+
+class SchemeExamples(RaisingCase):
+
+    def test_e01(self):
+        found = [T.level(4700), T.parent(4700), T.chain(4705), T.block(4700)]
+        self.assertEqual(found, [2, 4000, [4705, 4700, 4000, 0], (4700, 4800)])
+
+    def test_e02(self):
+        found = [T.last_time(4700), T.is_kept(4700, 4900), T.is_kept(4700, 4901)]
+        self.assertEqual(found, [4900, True, False])
+
+    def test_e03(self):
+        self.assertEqual(self.raised(InvalidScheme, Scheme, 1, 2).part, "base")
+
+    def test_e10(self):
+        self.assertEqual([least_factor(10, 1000, 99), least_factor(2, 10, 0)], [11, 10])
 
 
 class ArchiveExamples(RaisingCase):
@@ -152,6 +176,67 @@ class SpaceExamples(unittest.TestCase):
     def test_e312_e313(self):
         self.assertEqual([greatest_distance(T, 12), greatest_distance(T, 0)], [(10, 10), None])
         self.assertEqual([greatest_full(T, 12, 63), greatest_full(T, 12, 3)], [50, None])
+
+
+class StoreExamples(RaisingCase):
+
+    def test_e11(self):
+        t = Store(Scheme(10, 2))
+        found = [t.take(4768), t.damage(4700), t.plan(), t.take(40), t.archive().full(), t.planned()]
+        members = [4769, 4770, 4780, 4790]
+        self.assertEqual(found, [4768, None, members, 4808, members, []])
+
+    def test_e12(self):
+        t = Store(Scheme(10, 2))
+        t.take(4)
+        self.assert_number(1, t.pin, 1)
+
+
+class SearchExamples(RaisingCase):
+
+    def setUp(self):
+        self.archive = Archive(Scheme(2, 2))
+
+    def test_e233_e234(self):
+        self.assertEqual(count_candidates(self.archive, 10, 0, 10), 4)
+        self.assert_bound("bad", count_candidates, self.archive, 10, 10, 10)
+
+    def test_e235_e236(self):
+        self.assertEqual(candidate(self.archive, 10, 0, 10, 1), 6)
+        self.assert_bound("index", candidate, self.archive, 10, 0, 10, 4)
+
+    def test_e237_to_e239(self):
+        self.assertEqual(tests_needed(self.archive, 10, 0, 10), 3)
+        self.assertEqual(next_test(self.archive, 10, 0, 10), 8)
+        self.assertIsNone(next_test(self.archive, 10, 4, 6))
+
+    def test_e240_e241(self):
+        self.assertEqual(run_search(self.archive, 10, 0, 10, 7), ([8, 6], 6, 8))
+        self.assertEqual(run_search(self.archive, 10, 0, 10, 10), ([8, 9], 9, 10))
+
+    def test_e242_to_e244(self):
+        plan = (8, (9, None, None), (6, None, (4, None, None)))
+        self.assertEqual(best_plan(self.archive, 10, 0, 10), plan)
+        plan = (4, (6, (8, (9, None, None), None), None), None)
+        self.assertEqual(judge_plan(self.archive, 10, 0, 10, plan), 4)
+        self.assertIsNone(judge_plan(self.archive, 10, 0, 10, None))
+
+
+class ChangeExamples(RaisingCase):
+
+    def test_e314_e315(self):
+        x = Change(Scheme(2, 1), Scheme(4, 3), 20)
+        self.assertEqual([x.gone_count(20), x.next_gone(9, 20), x.settled_from(), x.moved_count()], [3, 12, 25, 1])
+        found = [x.is_kept(16, 20), x.is_kept(12, 20), x.is_gone(12, 24), x.is_gone(12, 25)]
+        self.assertEqual(found, [True, False, True, False])
+
+    def test_e316(self):
+        self.assertEqual(self.raised(InvalidScheme, Change, Scheme(2, 1), Scheme(6, 1), 3).part, "base")
+
+    def test_e317_e318(self):
+        self.assertEqual(Change(Scheme(2, 3), Scheme(2, 1), 8).dropped_count(), 2)
+        x = Change(Scheme(2, 1), Scheme(4, 1), 13)
+        self.assertEqual([x.is_moved(12), x.is_kept(12, 16), x.is_kept(8, 16)], [True, True, False])
 
 
 if __name__ == "__main__":
