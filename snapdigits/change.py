@@ -51,18 +51,17 @@ class Change:
 
     def settled_from(self):
         """The first time, not before the change, from which on no number is gone."""
+        # Of each level of the new scheme the greatest number that the old one dropped in a span lives longest.
+        # If it is so old that the new scheme does not keep it either, it ends before the change.
         settled = self.change_time
-        old_spans = kept_spans(self.old_scheme, self.change_time)
+        spans = kept_spans(self.old_scheme, self.change_time)
         for place in places_up_to(self.new_scheme.base(), self.change_time):
             life = self.new_scheme.factor() * place
-            oldest = max(1, self.change_time - life)
-            for low, high, kept_step in old_spans:
-                # The numbers of this level that the old scheme dropped: no multiples of either step.
-                other_step = min(kept_step, place * self.new_scheme.base())
-                if place < other_step:
-                    found = last_apart(high, place, other_step)
-                    if found >= max(oldest, low):
-                        settled = max(settled, found + life + 1)
+            for low, high, kept_step in spans:
+                step = min(kept_step, place * self.new_scheme.base())
+                found = last_apart(high, place, step)
+                if place < step and found >= low:
+                    settled = max(settled, found + life + 1)
         return settled
 
     def dropped_count(self):
@@ -72,7 +71,6 @@ class Change:
 
     def is_moved(self, number):
         """Whether both schemes keep a number at the change, with different parents."""
-        check_number(number)
         return (self.old_scheme.is_kept(number, self.change_time)
                 and self.new_scheme.is_kept(number, self.change_time)
                 and self.old_scheme.parent(number) != self.new_scheme.parent(number))
@@ -111,8 +109,9 @@ class Change:
         are powers of the old base, so what both schemes keep there are the multiples of the greater step.
         """
         rows = []
+        spans = kept_spans(self.old_scheme, self.change_time)
         for first, last, step in cut_rows(kept_rows(self.new_scheme, time), 0, self.change_time):
-            for low, high, kept_step in kept_spans(self.old_scheme, self.change_time):
+            for low, high, kept_step in spans:
                 if step < kept_step and max(first, low) <= min(last, high):
                     rows.append((max(first, low), min(last, high), step, kept_step))
         return rows

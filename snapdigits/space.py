@@ -1,7 +1,7 @@
 """How much space the snapshots take."""
 
 from snapdigits.errors import InvalidNumber
-from snapdigits.levels import places_up_to
+from snapdigits.levels import places_up_to, round_down
 from snapdigits.wholes import check_bound, check_number, check_time, is_integer_from
 
 
@@ -16,8 +16,6 @@ def size(scheme, number, full):
 
 def restore_size(scheme, number, full):
     """The sum of the sizes of the chain of a number."""
-    check_number(number)
-    check_bound(full, 1, "full")
     return sum([size(scheme, member, full) for member in scheme.chain(number)])
 
 
@@ -47,14 +45,12 @@ def size_of_range(scheme, first, after, full):
 def greatest_distance(scheme, time):
     """(distance, number): the greatest distance of a kept number to its parent, and the least such number."""
     check_time(time)
-    found = None
-    for place in places_up_to(scheme.base(), time):
-        oldest = max(1, time - scheme.factor() * place)
-        digit, number = greatest_digit(scheme.base(), place, oldest, time)
-        # All distances of a level are less than those of a higher one.
-        if digit > 0:
-            found = (digit * place, number)
-    return found
+    if time == 0:
+        return None
+    # The time with all digits but the highest replaced by 0 is kept, and its parent is 0. The other numbers up
+    # to the time have a lower digit at the highest place, or are nearer to their parents than this place.
+    number = round_down(time, places_up_to(scheme.base(), time)[-1])
+    return (number, number)
 
 
 def greatest_full(scheme, time, most):
@@ -71,21 +67,6 @@ def greatest_full(scheme, time, most):
         else:
             high = middle - 1
     return low if low > 0 else None
-
-
-def greatest_digit(base, place, low, high):
-    """The greatest digit of a place among its multiples from low to high, and the least number that has it.
-
-    The digit is 0 if none of them has this level.
-    """
-    first = -(-low // place)
-    last = high // place
-    top = first + (base - 1 - first) % base
-    # If the greatest digit of the base does not occur, the digits from first to last only ascend.
-    found = min(top, last)
-    if found < first:
-        return (0, high)
-    return (found % base, found * place)
 
 
 def size_of_level(base, place, low, high, full):

@@ -16,6 +16,12 @@ ALLOWED_DUNDERS = {"__init__", "__eq__", "__repr__", "__str__", "__len__"}
 BARRED_WORDS = re.compile(
     r"\b(type|typing|typing_extensions|enum|Enum|IntEnum|StrEnum|Flag|IntFlag|Generic|Protocol|ABC|ABCMeta"
     r"|namedtuple|NamedTuple|TypedDict|TYPE_CHECKING|abstractmethod)\b|dataclass|overload|contextmanager")
+ALLOWED_METHODS = set(
+    "append clear copy count endswith extend find get index insert isalnum isalpha isdigit islower isspace isupper "
+    "items join keys ljust lower lstrip partition pop remove replace reverse rfind rjust rpartition rsplit rstrip "
+    "setdefault split splitlines startswith strip update upper values zfill bit_length".split())
+ALLOWED_KEYWORDS = {"sorted": {"key", "reverse"}, "min": {"key", "default"}, "max": {"key", "default"},
+                    "sum": {"start"}, "enumerate": {"start"}, "zip": {"strict"}}
 TAKE_LISTS = ("any", "all", "min", "max", "sum", "sorted")
 
 
@@ -167,6 +173,34 @@ class Expressions(unittest.TestCase):
         for place, node in nodes(ast.Call):
             if isinstance(node.func, ast.Name) and node.func.id in ("range", "zip", "enumerate", "reversed"):
                 self.assertIn(ast.dump(node), at_once, place)
+
+    def test_methods_of_builtin_values(self):
+        own = {part.name for _, node in nodes(ast.ClassDef) for part in node.body if isinstance(part, ast.FunctionDef)}
+        for place, node in nodes(ast.Call):
+            if isinstance(node.func, ast.Attribute):
+                self.assertIn(node.func.attr, own | ALLOWED_METHODS, place)
+
+    def test_keywords_of_builtins(self):
+        for place, node in nodes(ast.Call):
+            if isinstance(node.func, ast.Name) and node.func.id in ALLOWED_BUILTINS:
+                for keyword in node.keywords:
+                    self.assertIn(keyword.arg, ALLOWED_KEYWORDS.get(node.func.id, ()), place)
+
+    def test_sets_are_sorted_or_counted_on_the_spot(self):
+        on_the_spot = set()
+        for _, node in nodes(ast.Call):
+            if isinstance(node.func, ast.Name) and node.func.id in ("sorted", "len"):
+                on_the_spot.update(ast.dump(argument) for argument in node.args)
+        for place, node in nodes(ast.Call, ast.Set, ast.SetComp):
+            if not isinstance(node, ast.Call) or isinstance(node.func, ast.Name) and node.func.id == "set":
+                self.assertIn(ast.dump(node), on_the_spot, place)
+
+    def test_attributes_that_are_read_are_assigned(self):
+        methods = {part.name for _, node in nodes(ast.ClassDef) for part in node.body
+                   if isinstance(part, ast.FunctionDef)}
+        assigned = {node.attr for _, node in nodes(ast.Attribute) if isinstance(node.ctx, ast.Store)}
+        for place, node in nodes(ast.Attribute):
+            self.assertIn(node.attr, assigned | methods | ALLOWED_METHODS, place)
 
     def test_comparisons_have_the_plain_form(self):
         for place, node in nodes(ast.FunctionDef):
